@@ -143,10 +143,9 @@ def random_figure(source, many=4, across=3):
 
 
 def twelve_corners(x, y, w, size=1):
-    """A polygon with twelve corners around the place (x / w, y / w), all with denominators w."""
+    """A polygon with twelve corners around the place (x / w, y / w), their denominators w or its divisors."""
     ring = [(26, 0), (24, 10), (19, 18), (10, 24), (0, 26), (-10, 24),
             (-19, 18), (-24, 10), (-26, 0), (-24, -10), (0, -26), (10, -24)]
-    # One corner is put off a little, so that the denominators stay as great as they are.
     corners = [(Fraction(x + size * dx, w), Fraction(y + size * dy, w)) for dx, dy in ring]
     return pts(*hull(corners))
 

@@ -1,0 +1,38 @@
+"""Each name of the interface is defined in its own file, with the arguments that are listed."""
+
+import importlib
+import inspect
+import unittest
+
+FUNCTIONS = {
+    "numbers": ["number(n, d)", "plus(a, b)", "minus(a, b)", "times(a, b)", "over(a, b)",
+                "less(a, b)", "sign(a)"],
+    "points": ["point(x, y, w)", "point_of(a, b)", "first_of(p)", "second_of(p)", "added(p, v)",
+               "difference(p, q)", "comes_before(p, q)", "side(a, b, c)", "crossing(a, b, c, d)"],
+    "polygons": ["is_polygon(value)", "polygon_of(points)", "area(polygon)", "place(polygon, p)"],
+    "clipping": ["halves(polygon, a, b)", "meet(first, second)", "rest(first, second)"],
+    "figures": ["figure_area(figure)", "meet_figures(first, second)", "rest_figures(first, second)",
+                "unite_figures(first, second)", "cover_same(first, second)", "holds(figure, p)",
+                "bounds(figure)", "is_figure(polygons)"],
+    "loops": ["odd_figure(loops)"],
+}
+CLASSES = {"errors": ["CutError", "OnEdge", "BadText", "NoSuchFigure", "WrongPaper"]}
+
+
+class Interface(unittest.TestCase):
+    def test_functions(self):
+        for file, rows in FUNCTIONS.items():
+            module = importlib.import_module("cutandlaid." + file)
+            for row in rows:
+                name = row.partition("(")[0]
+                function = getattr(module, name)
+                self.assertTrue(inspect.isfunction(function), row)
+                self.assertEqual(function.__module__, module.__name__)
+                self.assertEqual(name + str(inspect.signature(function)), row)
+
+    def test_classes(self):
+        for file, names in CLASSES.items():
+            module = importlib.import_module("cutandlaid." + file)
+            for name in names:
+                self.assertTrue(inspect.isclass(getattr(module, name)), name)
+                self.assertEqual(getattr(module, name).__module__, module.__name__)
