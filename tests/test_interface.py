@@ -1,8 +1,10 @@
 """Each name of the interface is defined in its own file, with the arguments that are listed."""
 
+import doctest
 import importlib
 import inspect
 import unittest
+from pathlib import Path
 
 FUNCTIONS = {
     "numbers": ["number(n, d)", "plus(a, b)", "minus(a, b)", "times(a, b)", "over(a, b)",
@@ -36,3 +38,11 @@ class Interface(unittest.TestCase):
             for name in names:
                 self.assertTrue(inspect.isclass(getattr(module, name)), name)
                 self.assertEqual(getattr(module, name).__module__, module.__name__)
+
+
+class Readme(unittest.TestCase):
+    def test_the_examples(self):
+        readme = Path(__file__).resolve().parent.parent / "README.md"
+        answer = doctest.testfile(str(readme), module_relative=False)
+        self.assertEqual(answer.failed, 0)
+        self.assertGreater(answer.attempted, 0)
