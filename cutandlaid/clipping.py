@@ -55,9 +55,12 @@ def halves(polygon, a, b):
 
 def lies_beyond_an_edge(first, second):
     """Whether the second polygon has no point to the left of some edge of the first one."""
-    for a, b, c in edge_lines(first):
-        for x, y, w in second:
-            if a * x + b * y + c * w > 0:
+    for k in range(len(first)):
+        (x, y, w), (u, v, t) = first[k - 1], first[k]
+        # The line along the edge; to look for a common divisor would take longer than it saves.
+        a, b, c = y * t - w * v, w * u - x * t, x * v - y * u
+        for p, q, r in second:
+            if a * p + b * q + c * r > 0:
                 break
         else:
             return True

@@ -1,5 +1,6 @@
 """Figures: lists of polygons of which no two meet."""
 
+from cutandlaid.borders import cover_alike
 from cutandlaid.clipping import meet, meets, rest
 from cutandlaid.frames import frame, near, overlap
 from cutandlaid.numbers import greatest, least, total
@@ -82,6 +83,8 @@ def lies_within(first, second):
 
 def cover_same(first, second):
     """Whether two figures cover the same."""
+    if cover_alike(first, second):
+        return True
     return lies_within(first, second) and lies_within(second, first)
 
 

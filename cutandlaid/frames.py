@@ -16,6 +16,9 @@ def near(first, second):
     """For each polygon of the first list the indexes of those of the second one that may meet it."""
     here = [frame(polygon) for polygon in first]
     there = [frame(polygon) for polygon in second]
+    if are_rather_level(here + there):
+        # Level strips would all be open at once from left to right, so they are gone through upwards.
+        here, there = [turned_over(box) for box in here], [turned_over(box) for box in there]
     events = sorted([(box[0], 0, k) for k, box in enumerate(here)]
                     + [(box[0], 1, k) for k, box in enumerate(there)])
     found = [[] for _ in first]
@@ -33,6 +36,20 @@ def near(first, second):
                     found[j].append(k)
             open_there.append(k)
     return [sorted(row) for row in found]
+
+
+def are_rather_level(boxes):
+    """Whether frames, beside the frame of all, are wider than they are high, taken together."""
+    if not boxes:
+        return False
+    wide = max([box[2] for box in boxes]) - min([box[0] for box in boxes])
+    tall = max([box[3] for box in boxes]) - min([box[1] for box in boxes])
+    return sum([box[2] - box[0] for box in boxes]) * tall > sum([box[3] - box[1] for box in boxes]) * wide
+
+
+def turned_over(box):
+    """A frame with its two directions changed for one another."""
+    return (box[1], box[0], box[3], box[2])
 
 
 def overlap_upwards(box, other):

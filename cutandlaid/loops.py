@@ -1,7 +1,7 @@
 """Loops: the figure of all points around which loops go an odd number of times."""
 
 from cutandlaid.numbers import ascending, less, over, plus, ranks
-from cutandlaid.points import common_point, first_of, line_through, point, second_of
+from cutandlaid.points import at_height, common_point, first_of, line_through, second_of
 from cutandlaid.polygons import polygon_of
 
 
@@ -68,12 +68,6 @@ def odd_pairs(edges, low, high):
     places = ranks([first_of(at_height(line, middle)) for line in lines])
     order = [line for _, line in sorted(zip(places, lines))]
     return [(order[j], order[j + 1]) for j in range(0, len(order), 2)]
-
-
-def at_height(line, height):
-    """The point of a line that is not level at a height."""
-    n, d = height
-    return point(-(line[1] * n + line[2] * d), line[0] * n, line[0] * d)
 
 
 def stretch(pair, low, high):

@@ -12,15 +12,21 @@ def number(n, d):
 
 
 def plus(a, b):
-    return number(a[0] * b[1] + b[0] * a[1], a[1] * b[1])
+    # Divisors are sought among the denominators first, which is much quicker where one is short.
+    common = gcd(a[1], b[1])
+    share = b[1] // common
+    n = a[0] * share + b[0] * (a[1] // common)
+    more = gcd(n, common)
+    return (n // more, (a[1] // more) * share)
 
 
 def minus(a, b):
-    return number(a[0] * b[1] - b[0] * a[1], a[1] * b[1])
+    return plus(a, (-b[0], b[1]))
 
 
 def times(a, b):
-    return number(a[0] * b[0], a[1] * b[1])
+    first, second = gcd(a[0], b[1]), gcd(b[0], a[1])
+    return ((a[0] // first) * (b[0] // second), (a[1] // second) * (b[1] // first))
 
 
 def over(a, b):

@@ -70,6 +70,14 @@ def line_through(a, b):
     return (first // common, second // common, third // common)
 
 
+def one_way(line):
+    """The same line, whichever way it leads."""
+    a, b, c = line
+    if a < 0 or (a == 0 and b < 0):
+        return (-a, -b, -c)
+    return line
+
+
 def line_value(line, p):
     """An integer above 0 if p lies to the left of the line, below 0 to the right, 0 on it."""
     return line[0] * p[0] + line[1] * p[1] + line[2] * p[2]
@@ -88,3 +96,9 @@ def common_point(line, other):
 def crossing(a, b, c, d):
     """The point that the lines through a and b, and c and d, have in common, or None."""
     return common_point(line_through(a, b), line_through(c, d))
+
+
+def at_height(line, height):
+    """The point of a line that is not level at a height."""
+    n, d = height
+    return point(-(line[1] * n + line[2] * d), line[0] * n, line[0] * d)

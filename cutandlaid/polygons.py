@@ -56,3 +56,8 @@ def area(polygon):
 def place(polygon, p):
     """1 if p is an inner point, 0 if it is on an edge or a corner, -1 if it is outside."""
     return min([side(polygon[k - 1], polygon[k], p) for k in range(len(polygon))])
+
+
+def edges_of(polygon):
+    """The pairs of the corners from which and to which the edges lead."""
+    return [(polygon[k - 1], polygon[k]) for k in range(len(polygon))]

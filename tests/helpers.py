@@ -101,7 +101,18 @@ def common_area(first, second):
 
 
 def common_areas(first, second):
-    return sum((common_area(a, b) for a in first for b in second), Fraction(0))
+    here, there = [(box(a), a) for a in first], [(box(b), b) for b in second]
+    return sum((common_area(a, b) for one, a in here for other, b in there if may_meet(one, other)), Fraction(0))
+
+
+def box(polygon):
+    """The least and greatest coordinates of the corners."""
+    xs, ys = zip(*[xy(p) for p in polygon])
+    return min(xs), max(xs), min(ys), max(ys)
+
+
+def may_meet(box, other):
+    return box[0] < other[1] and other[0] < box[1] and box[2] < other[3] and other[2] < box[3]
 
 
 def place_of(polygon, x, y):
@@ -115,8 +126,9 @@ def is_right_figure(value):
     """Whether a value is a list of well written polygons of which no two meet."""
     if type(value) is not list or not all(well_written(polygon) for polygon in value):
         return False
+    boxes = [box(polygon) for polygon in value]
     return all(common_area(value[k], value[j]) == 0
-               for k in range(len(value)) for j in range(k))
+               for k in range(len(value)) for j in range(k) if may_meet(boxes[k], boxes[j]))
 
 
 def random_polygon(source, spread_of=10, most=8, finest=6):
@@ -152,3 +164,91 @@ def twelve_corners(x, y, w, size=1):
 
 def seeded(number):
     return random.Random(number)
+
+
+def carried(motion, place):
+    """The pair of coordinates to which a motion brings a pair: quarter turns, then the slide."""
+    k, v = motion
+    x, y = place
+    for _ in range(k):
+        x, y = -y, x
+    dx, dy = xy(v)
+    return x + dx, y + dy
+
+
+def carried_polygon(motion, polygon):
+    return pts(*hull([carried(motion, xy(p)) for p in polygon]))
+
+
+def inside(polygon):
+    """A pair of coordinates of an inner point."""
+    places = [xy(p) for p in polygon]
+    return (sum(x for x, _ in places) / len(places), sum(y for _, y in places) / len(places))
+
+
+def split(source, polygon, cuts):
+    """The parts into which some random lines cut a polygon, each line all of them."""
+    parts = [[xy(p) for p in polygon]]
+    for _ in range(cuts):
+        a, b = [weighted(source, parts[0]) for _ in range(2)]
+        if a != b:
+            both = [clipped(part, *ends) for part in parts for ends in ((a, b), (b, a))]
+            parts = [hull(part) for part in both if part and spread(part) != 0]
+    return [pts(*part) for part in parts]
+
+
+def weighted(source, places):
+    """A random pair of coordinates within a convex round of pairs."""
+    weights = [source.randrange(1, 9) for _ in places]
+    return tuple(sum(w * place[k] for w, place in zip(weights, places)) / sum(weights) for k in range(2))
+
+
+TURNS = {"level": (0,), "grid": (0,), "grid2": (0, 2), "grid4": (0, 1, 2, 3),
+         "free": (0,), "free2": (0, 2), "free4": (0, 1, 2, 3)}
+
+
+def random_motion(source, group):
+    k = source.choice(TURNS[group])
+    w = 1 if group.startswith("grid") else source.randrange(1, 9)
+    y = 0 if group == "level" else source.randrange(-30, 31)
+    return k, at(Fraction(source.randrange(-30, 31), w), Fraction(y, w))
+
+
+def random_paper(source, figure, group, cuts=2):
+    """A paper of pieces of a figure that are laid beside one another, none onto another one."""
+    paper, edge = [], 0
+    for polygon in figure:
+        for piece in split(source, polygon, cuts):
+            k, v = random_motion(source, group)
+            left = min(xy(p)[0] for p in carried_polygon((k, v), piece))
+            v = at(xy(v)[0] + (edge - left).__ceil__(), xy(v)[1])
+            right = max(xy(p)[0] for p in carried_polygon((k, v), piece))
+            paper.append((piece, (k, v)))
+            edge = right + source.randrange(2)
+    return paper
+
+
+def is_right(paper, first, second, group):
+    """Whether a list of pairs is a right paper, by the second way to reckon."""
+    pieces = [polygon for polygon, _ in paper]
+    laid = [carried_polygon(motion, polygon) for polygon, motion in paper]
+    if not all(is_motion_of(motion, group) for _, motion in paper):
+        return False
+    return (is_right_figure(pieces) and area_of(pieces) == area_of(first) == common_areas(pieces, first)
+            and is_right_figure(laid) and area_of(laid) == area_of(second) == common_areas(laid, second))
+
+
+def is_motion_of(motion, group):
+    if type(motion) is not tuple or motion[0] not in TURNS[group] or not in_one_form(motion[1]):
+        return False
+    if group == "level":
+        return motion[1][1] == 0
+    return motion[1][2] == 1 or group.startswith("free")
+
+
+def where(paper, place):
+    """To where a paper brings a pair of coordinates: None outside of its pieces and on their edges."""
+    for polygon, motion in paper:
+        if place_of(polygon, *place) == 1:
+            return carried(motion, place)
+    return None

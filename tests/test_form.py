@@ -21,6 +21,9 @@ BUILTINS = set("""len range enumerate zip min max sum abs sorted reversed int st
     staticmethod classmethod type Exception ValueError TypeError KeyError IndexError LookupError
     ZeroDivisionError ArithmeticError OverflowError RuntimeError NotImplementedError AttributeError
     StopIteration NotImplemented getattr hasattr setattr""".split())
+BARRED_NAMES = set("""register mro elements open input law version_info with_traceback add_note attrgetter
+    breakpoint builtins compile copyright credits delattr dir eval exec exit gc globals help id importlib
+    license locals methodcaller os quit vars sys typing enum Enum""".split())
 BARRED = (ast.AsyncFunctionDef, ast.AsyncFor, ast.AsyncWith, ast.Await, ast.Import, ast.Div)
 
 
@@ -79,11 +82,39 @@ class Form(unittest.TestCase):
                 self.assertNotIsInstance(node, BARRED, file)
                 if isinstance(node, ast.Constant):
                     self.assertNotIsInstance(node.value, (float, complex), file)
-                if isinstance(node, ast.Name) and hasattr(builtins, node.id):
+                if isinstance(node, ast.Name) and hasattr(builtins, node.id) and node.id != "_":
                     self.assertIn(node.id, BUILTINS, file)
                     self.assertIsInstance(node.ctx, ast.Load, file)
                 if isinstance(node, ast.arg):
                     self.assertFalse(hasattr(builtins, node.arg), (file, node.arg))
+
+    def test_imports_are_used_and_keep_their_names(self):
+        for file, tree in trees():
+            imported = {name.name for node in ast.walk(tree) if isinstance(node, ast.ImportFrom) for name in node.names}
+            read = {node.id for node in ast.walk(tree) if isinstance(node, ast.Name) and isinstance(node.ctx, ast.Load)}
+            bound = {node.id for node in ast.walk(tree) if isinstance(node, ast.Name) and isinstance(node.ctx, ast.Store)}
+            bound |= {node.arg for node in ast.walk(tree) if isinstance(node, ast.arg)}
+            self.assertLessEqual(imported, read, file)
+            self.assertEqual(imported & bound, set(), file)
+
+    def test_names_that_are_barred(self):
+        for file, tree in trees():
+            for node in ast.walk(tree):
+                names = [getattr(node, part, None) for part in ("id", "arg", "attr", "name")]
+                self.assertFalse(BARRED_NAMES & {name for name in names if isinstance(name, str)}, file)
+                if isinstance(node, ast.Constant) and isinstance(node.value, str):
+                    self.assertNotIn("%", node.value, file)
+
+    def test_module_level_names_are_bound_once(self):
+        for file, tree in trees():
+            names = [node.name for node in tree.body if isinstance(node, (ast.FunctionDef, ast.ClassDef))]
+            for node in tree.body:
+                if isinstance(node, ast.Assign):
+                    self.assertTrue(all(isinstance(target, ast.Name) for target in node.targets), file)
+                    names.extend(target.id for target in node.targets)
+                if isinstance(node, ast.ImportFrom):
+                    names.extend(name.name for name in node.names)
+            self.assertEqual(len(names), len(set(names)), file)
 
 
 def defined_in(module):
