@@ -17,6 +17,16 @@ FUNCTIONS = {
                 "unite_figures(first, second)", "cover_same(first, second)", "holds(figure, p)",
                 "bounds(figure)", "is_figure(polygons)"],
     "loops": ["odd_figure(loops)"],
+    "motions": ["follow(first, second)", "undo(motion)", "moved(motion, p)", "moved_polygon(motion, polygon)",
+                "moved_figure(motion, figure)"],
+    "groups": ["in_group(motion, group)", "lies_in(group, other)"],
+    "papers": ["identity(figure)", "inverse(paper)", "composed(first, second)", "part(paper, figure)",
+               "image(paper, figure)", "beside(first, second)"],
+    "judging": ["find_fault(paper, first, second, group)"],
+    "sums": ["edge_sums(figure)", "level_sums(figure)", "covers(figure, p, group)", "level_at(figure, y)"],
+    "witnesses": ["is_witness(witness, first, second, group)"],
+    "layers": ["match(first, second)"],
+    "slabs": ["slabs(figure, heights)"],
 }
 CLASSES = {"errors": ["CutError", "OnEdge", "BadText", "NoSuchFigure", "WrongPaper"]}
 
