@@ -47,6 +47,11 @@ def sign(a):
     return 0
 
 
+def size_of(a):
+    """The number without its sign."""
+    return (abs(a[0]), a[1])
+
+
 def total(numbers):
     """The sum of a list of numbers."""
     row = list(numbers)

@@ -27,6 +27,11 @@ FUNCTIONS = {
     "witnesses": ["is_witness(witness, first, second, group)"],
     "layers": ["match(first, second)"],
     "slabs": ["slabs(figure, heights)"],
+    "gridpapers": ["fold(figure, group)", "grid_paper(first, second, group)"],
+    "levelpapers": ["lean(w, h, s)", "level_paper(first, second)"],
+    "freepapers": ["turn_over(a, b, c, d)", "fill(l, r, h)", "free_paper(first, second)",
+                   "half_paper(first, second)"],
+    "deciding": ["decide(first, second, group)", "equal_groups(first, second)", "least_groups(first, second)"],
 }
 CLASSES = {"errors": ["CutError", "OnEdge", "BadText", "NoSuchFigure", "WrongPaper"]}
 

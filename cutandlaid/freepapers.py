@@ -1,0 +1,112 @@
+"""Papers for "free" and "free2": figures are taken apart into wedges and bars, and these are matched."""
+
+from cutandlaid.assembling import matched_whole
+from cutandlaid.bars import leaned
+from cutandlaid.figures import figure_area
+from cutandlaid.numbers import less, over, times
+from cutandlaid.papers import inverse
+from cutandlaid.piles import MANY, bars_paper, effort, is_too_narrow, of_width
+from cutandlaid.points import point_of
+from cutandlaid.polygons import polygon_of
+from cutandlaid.slabs import slabs
+from cutandlaid.sums import edge_sums
+from cutandlaid.trapezoids import (NOUGHT, ORIGIN, joined, paper_between, parted, parted_level, rectangle_of,
+                                   trapezoid_of, turned_half, within)
+from cutandlaid.wedges import Pairing, bars_of_both, taken_apart
+
+
+def turn_over(a, b, c, d):
+    """A right paper for "free" from the rectangle of the lengths a and b to the one of c and d."""
+    return inverse(of_width(rectangle_of(a, b), c).layers)
+
+
+def fill(l, r, h):
+    """A right paper for "free2" from the triangle upwards from (0, 0), of slopes l and r, to a rectangle."""
+    corners = [ORIGIN, point_of(times(r, h), h), point_of(times(l, h), h)]
+    bar = straightened(trapezoid_of(polygon_of(corners)))
+    return inverse(leaned(bar, NOUGHT).layers)
+
+
+def straightened(item):
+    """The bar of half the height that the lower half of a trapezoid makes with the upper one."""
+    if less(item.right, item.left):
+        return straightened(turned_half(item))
+    lower, upper = parted_level(item, over(item.height, (2, 1)))
+    below = turned_half(lower)
+    # All slopes between those of both edges can be had; the one that leans least is taken.
+    slope = within(item.left, NOUGHT, item.right)
+    if slope == item.left:
+        return joined([upper, below])
+    if slope == item.right:
+        return joined([below, upper])
+    wedge, upper = parted(upper, slope, NOUGHT)
+    return joined([upper, below, wedge])
+
+
+def trapezoids_of(figure):
+    """The trapezoids into which level lines cut each polygon of a figure at its own corners."""
+    return [trapezoid_of(slab) for polygon in figure for slab in slabs([polygon], [])]
+
+
+def half_paper(first, second):
+    """A right paper for "free2", or None if there is none."""
+    if figure_area(first) != figure_area(second):
+        return None
+    return paper_by_area(first, second, ("free", "free2"))
+
+
+def paper_by_area(first, second, groups):
+    """A paper for figures with the same area, by motions of the last one of some groups, of which "free2" is one."""
+    paper, first_rest, second_rest = [], first, second
+    # Polygons that fit one another without a turn are more likely to belong together.
+    for group in groups:
+        more, first_rest, second_rest = matched_whole(first_rest, second_rest, group)
+        paper.extend(more)
+    bars = (straightened_bars(first_rest), straightened_bars(second_rest))
+    all_bars = (straightened_bars(first), straightened_bars(second))
+    if is_too_narrow(bars, all_bars):
+        return bars_paper(all_bars[0], all_bars[1])
+    return paper + bars_paper(bars[0], bars[1])
+
+
+def straightened_bars(figure):
+    return [straightened(item) for item in trapezoids_of(figure)]
+
+
+def free_paper(first, second):
+    """A right paper for "free", or None if there is none."""
+    if figure_area(first) != figure_area(second) or edge_sums(first) != edge_sums(second):
+        return None
+    paper, first_rest, second_rest = matched_whole(first, second, "free")
+    pairs, bars = paired_wedges(first_rest, second_rest, False)
+    if effort(bars[0], bars[1]) > MANY:
+        # Bars that are wide enough for narrow ones are taken from what need not have been cut.
+        all_pairs, all_bars = paired_wedges(first, second, True)
+        if is_too_narrow(bars, all_bars):
+            paper, pairs, bars = [], all_pairs, all_bars
+    for item, other in pairs:
+        paper.extend(paper_between(item.layers, other.layers))
+    return paper + bars_paper(bars[0], bars[1])
+
+
+def paired_wedges(first, second, opened):
+    """Pairs of wedges of two figures that are alike, and the pair of the bars of both.
+
+    These are all that the figures are made of. Where it is asked for, bars are taken out of the pairs, too.
+    """
+    here, there = taken_apart(trapezoids_of(first), NOUGHT), taken_apart(trapezoids_of(second), NOUGHT)
+    upward, downward = Pairing(here[0], there[0]), Pairing(here[1], there[1])
+    if opened:
+        upward.open_pairs()
+        downward.open_pairs()
+    bars = []
+    for k, parts in enumerate((here[2], there[2])):
+        # What is left goes over the same slopes upwards and downwards, so that it makes bars.
+        pairing = Pairing(upward.left[k], downward.left[k])
+        parts = parts + upward.bars[k] + turned_back(downward.bars[k])
+        bars.append(parts + pairing.bars[0] + turned_back(pairing.bars[1]) + bars_of_both(pairing.pairs))
+    return (upward.pairs + downward.pairs, (bars[0], bars[1]))
+
+
+def turned_back(items):
+    return [turned_half(item) for item in items]

@@ -1,0 +1,184 @@
+"""Piles of rectangles of one width, into which bars are made, so that they can be compared."""
+
+from math import isqrt
+
+from cutandlaid.bars import held, leaned, rounded_down, rounded_up
+from cutandlaid.numbers import greatest, least, less, minus, over, plus, ranks, size_of, times, total
+from cutandlaid.points import point_of
+from cutandlaid.trapezoids import (NOUGHT, Trapezoid, cut_layers, joined, paper_between, parted, parted_level,
+                                   slid, without_alike)
+
+# A bar is thin for a width of which its lower edge is not even one of so many parts.
+THIN = 8
+# How many of the greatest bars are asked for a width.
+ASKED = 6
+# More pieces than these are a reason to cut bars that need not be cut for the sake of the others.
+MANY = 5000
+# The part of one in which lengths and areas are told roughly.
+ROUGH = 1099511627776
+
+
+def flattened(bar, many):
+    """The bar that equally high parts of a bar make side by side."""
+    step = over(bar.height, (many, 1))
+    parts, remaining = [], bar
+    for _ in range(many - 1):
+        part, remaining = parted_level(remaining, step)
+        parts.append(part)
+    return joined(parts + [remaining])
+
+
+def heaped(bar, many):
+    """The bar that equally wide parts of a bar make upon one another."""
+    step = over(bar.low, (many, 1))
+    layers, remaining = [], bar
+    for k in range(many - 1):
+        part, remaining = parted(remaining, bar.left, step)
+        layers.extend(slid(part.layers, times((k, 1), times(bar.left, bar.height)), times((k, 1), bar.height)))
+    up = (many - 1, 1)
+    layers.extend(slid(remaining.layers, times(up, times(bar.left, bar.height)), times(up, bar.height)))
+    return Trapezoid(bar.left, bar.left, step, times((many, 1), bar.height), layers)
+
+
+def narrowed(rectangle, width):
+    """The rectangle of a width, of which the given one is at most double, of three parts of the given one.
+
+    The part above the line from the upper left corner of the new one to the lower right corner of the
+    given one slides along this line, and what is then still too far to the right comes upon the rest.
+    """
+    if rectangle.low == width:
+        return rectangle
+    height = over(times(rectangle.low, rectangle.height), width)
+    below, above = cut_layers(rectangle.layers, point_of(rectangle.low, NOUGHT), point_of(NOUGHT, height))
+    inside, outside = cut_layers(below, point_of(width, NOUGHT), point_of(width, (1, 1)))
+    layers = (inside + slid(above, minus(width, rectangle.low), minus(height, rectangle.height))
+              + slid(outside, minus(NOUGHT, width), rectangle.height))
+    return Trapezoid(NOUGHT, NOUGHT, width, height, layers)
+
+
+def of_width(bar, width):
+    """The rectangle of a width that is made of a bar."""
+    if less(bar.low, width):
+        rectangle = leaned(flattened(bar, rounded_up(over(width, bar.low))), NOUGHT)
+    else:
+        rectangle = leaned(bar, NOUGHT)
+        rectangle = heaped(rectangle, rounded_down(over(bar.low, width)))
+    return narrowed(rectangle, width)
+
+
+def reach(bar):
+    """How far the upper edge of a bar lies aside of the lower one."""
+    return times(size_of(bar.left), bar.height)
+
+
+def is_thin(bar, width):
+    return less(times((THIN, 1), bar.low), width)
+
+
+def pile_of(bars, width):
+    """Rectangles of a width that are made of bars."""
+    pile = [of_width(bar, width) for bar in bars if not is_thin(bar, width)]
+    thin = [bar for bar in bars if is_thin(bar, width)]
+    if not pile:
+        pile.append(of_width(thin.pop(0), width))
+    return with_thin_ones(pile, thin, width)
+
+
+def with_thin_ones(pile, thin, width):
+    """The pile with thin bars, each of which is cut up and put into a part of a rectangle that has none yet."""
+    fresh, done = list(pile), []
+    for k, bar in enumerate(thin):
+        host = fresh.pop(tallest(fresh))
+        # Each of the others is to find as much of the rectangles.
+        share = over(total([host.height] + [rectangle.height for rectangle in fresh]), (len(thin) - k, 1))
+        limit = least([share, host.height])
+        many = rounded_up(greatest([over(bar.height, limit), over(reach(bar), width)]))
+        flat = flattened(bar, many)
+        if less(flat.height, host.height):
+            host, remaining = parted_level(host, flat.height)
+            fresh.append(remaining)
+        done.append(of_width(held(host, [flat]), width))
+    return fresh + done
+
+
+def tallest(pile):
+    """The place of the first one of the rectangles with the greatest height."""
+    best = 0
+    for k in range(1, len(pile)):
+        if less(pile[best].height, pile[k].height):
+            best = k
+    return best
+
+
+def best_width(bars):
+    """A width to which bars can be brought with few cuts."""
+    sizes = ranks([times(bar.low, bar.height) for bar in bars])
+    ordered = sorted([(-size, k) for k, size in enumerate(sizes)])
+    best, best_cuts = None, None
+    for _, k in ordered[:ASKED]:
+        bar = bars[k]
+        many = max(1, isqrt(rounded_down(over(reach(bar), bar.low))))
+        width = times(bar.low, (many, 1))
+        cuts = sum([cuts_to(other, width) for other in bars])
+        if best is None or cuts < best_cuts:
+            best, best_cuts = width, cuts
+    return best
+
+
+def cuts_to(bar, width):
+    """About how many cuts bring a bar to a width."""
+    if is_thin(bar, width):
+        return 2 * THIN + rounded_up(over(reach(bar), width))
+    many = rounded_up(over(width, bar.low))
+    lean = rounded_up(over(reach(bar), times(bar.low, (many * many, 1))))
+    return many + lean + rounded_up(over(bar.low, width))
+
+
+def effort(first, second):
+    """About how many pieces a paper from bars to other bars gets, beyond those for each bar."""
+    if not first:
+        return 0
+    width = best_width(first + second)
+    lengths = [sum([length_of_cuts(bar, width) for bar in bars]) for bars in (first, second)]
+    size = sum([rough(times(bar.low, bar.height)) for bar in first])
+    # Cuts of the one kind that lie everywhere in all directions cross those of the other kind so often.
+    return lengths[0] * lengths[1] // (size * ROUGH + 1)
+
+
+def length_of_cuts(bar, width):
+    """About how long all edges are together of the pieces of a bar that is brought to a width, roughly."""
+    columns = plus((1, 1), plus(over(bar.low, width), over(reach(bar), greatest([bar.low, width]))))
+    sides = times(columns, plus(bar.height, reach(bar)))
+    return rough(plus(sides, plus(bar.low, times((3, 1), width))))
+
+
+def rough(a):
+    """A number as a multiple of a small one, rounded down."""
+    return a[0] * ROUGH // a[1]
+
+
+def bars_paper(first, second):
+    """A paper from bars to other bars that have the same area together."""
+    here, there, pairs = without_alike(first, second)
+    if is_too_narrow((here, there), (first, second)):
+        here, there, pairs = first, second, []
+    if here:
+        width = best_width(here + there)
+        here, there, more = without_alike(pile_of(here, width), pile_of(there, width))
+        pairs = pairs + more + [(heap_of(here), heap_of(there))]
+    return [pair for item, other in pairs for pair in paper_between(item.layers, other.layers)]
+
+
+def is_too_narrow(some, all_bars):
+    """Whether it is better to match all bars, of two figures, than some of them that are narrow."""
+    pieces = effort(some[0], some[1])
+    return pieces > MANY and pieces > 4 * effort(all_bars[0], all_bars[1])
+
+
+def heap_of(pile):
+    """The rectangle that rectangles of one width make upon one another."""
+    layers, place = [], NOUGHT
+    for rectangle in pile:
+        layers.extend(slid(rectangle.layers, NOUGHT, place))
+        place = plus(place, rectangle.height)
+    return Trapezoid(NOUGHT, NOUGHT, NOUGHT, place, layers)
