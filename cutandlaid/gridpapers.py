@@ -7,6 +7,7 @@ from cutandlaid.figures import figure_area
 from cutandlaid.layers import match
 from cutandlaid.motions import follow, moved_polygon, undo
 from cutandlaid.papers import pieces_of
+from cutandlaid.shortening import shortened
 
 # For each grid group how many of its fields stand side by side in one step, and how many upon another.
 FIELDS = {"grid": (1, 1), "grid2": (1, 2), "grid4": (2, 2)}
@@ -145,4 +146,5 @@ def grid_paper(first, second, group):
     if fold_difference(here, there):
         return None
     matched, _, _ = match(here, there)
-    return paper + [(moved_polygon(back, polygon), follow(undo(back), other)) for polygon, back, other in matched]
+    laid = [(moved_polygon(back, polygon), follow(undo(back), other)) for polygon, back, other in matched]
+    return shortened(paper + laid)

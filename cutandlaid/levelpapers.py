@@ -5,6 +5,7 @@ from cutandlaid.bars import leaned
 from cutandlaid.numbers import ascending, least
 from cutandlaid.papers import inverse
 from cutandlaid.points import second_of
+from cutandlaid.shortening import shortened
 from cutandlaid.slabs import slabs
 from cutandlaid.strips import add_strip
 from cutandlaid.sums import level_sums
@@ -28,11 +29,11 @@ def level_paper(first, second):
     for most in MOST:
         more = paper_in_strips(first_rest, second_rest, most)
         if more is not None:
-            return paper + more
+            return shortened(paper + more)
         whole = paper_in_strips(first, second, most)
         if whole is not None:
-            return whole
-    return paper + paper_in_strips(first_rest, second_rest, None)
+            return shortened(whole)
+    return shortened(paper + paper_in_strips(first_rest, second_rest, None))
 
 
 def paper_in_strips(first, second, most):

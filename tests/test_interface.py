@@ -32,8 +32,14 @@ FUNCTIONS = {
     "freepapers": ["turn_over(a, b, c, d)", "fill(l, r, h)", "free_paper(first, second)",
                    "half_paper(first, second)"],
     "deciding": ["decide(first, second, group)", "equal_groups(first, second)", "least_groups(first, second)"],
+    "along": ["along_equal(first, second, direction)", "along_paper(first, second, direction)"],
+    "texts": ["write_figure(figure)", "write_paper(paper)", "read_figure(text)", "read_paper(text)"],
+    "shortening": ["shortened(paper)"],
 }
-CLASSES = {"errors": ["CutError", "OnEdge", "BadText", "NoSuchFigure", "WrongPaper"]}
+CLASSES = {"errors": ["CutError", "OnEdge", "BadText", "NoSuchFigure", "WrongPaper"], "book": ["Book"]}
+METHODS = ["put(self, name, figure)", "figure(self, name)", "names(self)",
+           "put_paper(self, first, second, group, paper)", "paper(self, first, second, group)",
+           "alike(self, name, group)"]
 
 
 class Interface(unittest.TestCase):
@@ -53,6 +59,14 @@ class Interface(unittest.TestCase):
             for name in names:
                 self.assertTrue(inspect.isclass(getattr(module, name)), name)
                 self.assertEqual(getattr(module, name).__module__, module.__name__)
+
+    def test_methods(self):
+        book = importlib.import_module("cutandlaid.book").Book
+        for row in METHODS:
+            name = row.partition("(")[0]
+            self.assertTrue(inspect.isfunction(vars(book)[name]), row)
+            self.assertEqual(name + str(inspect.signature(vars(book)[name])), row)
+        self.assertEqual(str(inspect.signature(book)), "()")
 
 
 class Readme(unittest.TestCase):
