@@ -9,6 +9,7 @@ from cutandlaid.joining import joined_polygon
 from cutandlaid.motions import STAY, moved_polygon, turned
 from cutandlaid.points import difference
 from cutandlaid.polygons import edges_of
+from cutandlaid.sums import along
 from cutandlaid.trapezoids import brought, paper_between
 
 # With how many polygons that have a fitting edge one is compared.
@@ -73,50 +74,78 @@ def to_origin(p, group):
 
 def assembled(wholes, group):
     """Polygons that are made of others which are joined where edges fit by a motion of the group."""
-    joined = list(wholes)
-    by_edge = {}
-    for k, (polygon, _) in enumerate(joined):
-        list_edges(k, polygon, by_edge)
-    waiting = list(range(len(joined)))[::-1]
-    while waiting:
-        k = waiting.pop()
-        if joined[k] is None:
-            continue
-        found = partner(k, joined, by_edge, group)
-        if found is not None:
-            j, motion, polygon = found
-            layers = joined[k][1] + brought(joined[j][1], motion)
-            joined[k], joined[j] = None, None
-            list_edges(len(joined), polygon, by_edge)
-            waiting.append(len(joined))
-            joined.append((polygon, layers))
-    return [whole for whole in joined if whole is not None]
+    assembly = Assembly(wholes, group)
+    # What one line cut through at once is joined at once; so the next line is found whole again.
+    while assembly.joins():
+        pass
+    return [whole for whole in assembly.wholes if whole is not None]
 
 
-def list_edges(k, polygon, by_edge):
-    """Put the number of a polygon, with each of its edges, under the vector of the edge."""
-    for start, end in edges_of(polygon):
-        by_edge.setdefault(difference(end, start), []).append((k, start))
+class Assembly:
+    """Polygons, with the layers of which they are made, that are joined."""
+
+    def __init__(self, wholes, group):
+        self.group = group
+        # Those that were joined to others are None.
+        self.wholes = []
+        # The pairs of a number and a corner where an edge begins, by its vector.
+        self.by_edge = {}
+        # The numbers of the polygons that have edges of a direction, either way.
+        self.by_direction = {}
+        for polygon, layers in wholes:
+            self.put(polygon, layers)
+
+    def put(self, polygon, layers):
+        """Take up a polygon; its number."""
+        number = len(self.wholes)
+        self.wholes.append((polygon, layers))
+        for start, end in edges_of(polygon):
+            vector = difference(end, start)
+            self.by_edge.setdefault(vector, []).append((number, start))
+            self.by_direction.setdefault(direction_of(vector), []).append(number)
+        return number
+
+    def joins(self):
+        """Join what can be joined, one direction of edges after the other; whether anything was."""
+        before = len(self.wholes)
+        for direction in list(self.by_direction):
+            waiting = self.by_direction[direction][::-1]
+            while waiting:
+                number = waiting.pop()
+                found = None if self.wholes[number] is None else self.partner(number, direction)
+                if found is not None:
+                    waiting.append(self.join(number, found))
+        return len(self.wholes) > before
+
+    def join(self, number, found):
+        """Join two polygons; the number of the new one."""
+        other, motion, polygon = found
+        layers = self.wholes[number][1] + brought(self.wholes[other][1], motion)
+        self.wholes[number], self.wholes[other] = None, None
+        return self.put(polygon, layers)
+
+    def partner(self, number, direction):
+        """The number of a polygon that fits one along a direction, the motion of it, and both joined; or None."""
+        polygon = self.wholes[number][0]
+        for start, end in edges_of(polygon):
+            if direction_of(difference(end, start)) == direction:
+                for other, motion in self.fitting_ones(number, start, end):
+                    whole = joined_polygon(polygon, moved_polygon(motion, self.wholes[other][0]), start, end)
+                    if whole is not None:
+                        return (other, motion, whole)
+        return None
+
+    def fitting_ones(self, number, start, end):
+        """The numbers of some polygons that a motion brings to the other side of an edge, and the motions."""
+        found = []
+        for turns in TURNS[self.group]:
+            vector = turned(-turns % 4, difference(start, end))
+            for other, corner in self.by_edge.get(vector, []):
+                motion = (turns, difference(end, turned(turns, corner)))
+                if other != number and self.wholes[other] is not None and in_group(motion, self.group):
+                    found.append((other, motion))
+        return found[:TRIALS]
 
 
-def partner(k, joined, by_edge, group):
-    """The number of a polygon that fits polygon k, the motion that brings it there, and both joined; or None."""
-    polygon = joined[k][0]
-    for start, end in edges_of(polygon):
-        for j, motion in fitting(k, start, end, joined, by_edge, group):
-            whole = joined_polygon(polygon, moved_polygon(motion, joined[j][0]), start, end)
-            if whole is not None:
-                return (j, motion, whole)
-    return None
-
-
-def fitting(k, start, end, joined, by_edge, group):
-    """The numbers of some polygons that a motion brings to the other side of an edge of polygon k, and the motions."""
-    found = []
-    for turns in TURNS[group]:
-        vector = turned(-turns % 4, difference(start, end))
-        for j, corner in by_edge.get(vector, []):
-            motion = (turns, difference(end, turned(turns, corner)))
-            if j != k and joined[j] is not None and in_group(motion, group):
-                found.append((j, motion))
-    return found[:TRIALS]
+def direction_of(vector):
+    return along(vector)[0]

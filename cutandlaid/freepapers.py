@@ -12,7 +12,7 @@ from cutandlaid.slabs import slabs
 from cutandlaid.sums import edge_sums
 from cutandlaid.trapezoids import (NOUGHT, ORIGIN, joined, paper_between, parted, parted_level, rectangle_of,
                                    trapezoid_of, turned_half, within)
-from cutandlaid.wedges import Pairing, bars_of_both, taken_apart
+from cutandlaid.wedgepairs import paired_wedges
 
 
 def turn_over(a, b, c, d):
@@ -78,35 +78,12 @@ def free_paper(first, second):
     if figure_area(first) != figure_area(second) or edge_sums(first) != edge_sums(second):
         return None
     paper, first_rest, second_rest = matched_whole(first, second, "free")
-    pairs, bars = paired_wedges(first_rest, second_rest, False)
+    pairs, bars = paired_wedges(trapezoids_of(first_rest), trapezoids_of(second_rest), False)
     if effort(bars[0], bars[1]) > MANY:
         # Bars that are wide enough for narrow ones are taken from what need not have been cut.
-        all_pairs, all_bars = paired_wedges(first, second, True)
+        all_pairs, all_bars = paired_wedges(trapezoids_of(first), trapezoids_of(second), True)
         if is_too_narrow(bars, all_bars):
             paper, pairs, bars = [], all_pairs, all_bars
     for item, other in pairs:
         paper.extend(paper_between(item.layers, other.layers))
     return paper + bars_paper(bars[0], bars[1])
-
-
-def paired_wedges(first, second, opened):
-    """Pairs of wedges of two figures that are alike, and the pair of the bars of both.
-
-    These are all that the figures are made of. Where it is asked for, bars are taken out of the pairs, too.
-    """
-    here, there = taken_apart(trapezoids_of(first), NOUGHT), taken_apart(trapezoids_of(second), NOUGHT)
-    upward, downward = Pairing(here[0], there[0]), Pairing(here[1], there[1])
-    if opened:
-        upward.open_pairs()
-        downward.open_pairs()
-    bars = []
-    for k, parts in enumerate((here[2], there[2])):
-        # What is left goes over the same slopes upwards and downwards, so that it makes bars.
-        pairing = Pairing(upward.left[k], downward.left[k])
-        parts = parts + upward.bars[k] + turned_back(downward.bars[k])
-        bars.append(parts + pairing.bars[0] + turned_back(pairing.bars[1]) + bars_of_both(pairing.pairs))
-    return (upward.pairs + downward.pairs, (bars[0], bars[1]))
-
-
-def turned_back(items):
-    return [turned_half(item) for item in items]

@@ -58,12 +58,13 @@ def narrowed(rectangle, width):
 
 def of_width(bar, width):
     """The rectangle of a width that is made of a bar."""
-    if less(bar.low, width):
-        rectangle = leaned(flattened(bar, rounded_up(over(width, bar.low))), NOUGHT)
-    else:
-        rectangle = leaned(bar, NOUGHT)
-        rectangle = heaped(rectangle, rounded_down(over(bar.low, width)))
-    return narrowed(rectangle, width)
+    rectangle = leaned(flattened(bar, rows_for(bar, width)), NOUGHT)
+    return narrowed(heaped(rectangle, rounded_down(over(rectangle.low, width))), width)
+
+
+def rows_for(bar, width):
+    """Into how many equally high parts a bar is cut that these make a wide one that leans little."""
+    return max(1, rounded_up(over(width, bar.low)), isqrt(rounded_down(over(reach(bar), bar.low))))
 
 
 def reach(bar):
@@ -76,29 +77,42 @@ def is_thin(bar, width):
 
 
 def pile_of(bars, width):
-    """Rectangles of a width that are made of bars."""
-    pile = [of_width(bar, width) for bar in bars if not is_thin(bar, width)]
+    """Rectangles of a width that are made of bars.
+
+    Where it takes many parts to make a rectangle of a thin bar, it is put into a part of another one.
+    """
+    fresh, done = [], []
     thin = [bar for bar in bars if is_thin(bar, width)]
-    if not pile:
-        pile.append(of_width(thin.pop(0), width))
-    return with_thin_ones(pile, thin, width)
-
-
-def with_thin_ones(pile, thin, width):
-    """The pile with thin bars, each of which is cut up and put into a part of a rectangle that has none yet."""
-    fresh, done = list(pile), []
-    for k, bar in enumerate(thin):
-        host = fresh.pop(tallest(fresh))
-        # Each of the others is to find as much of the rectangles.
-        share = over(total([host.height] + [rectangle.height for rectangle in fresh]), (len(thin) - k, 1))
-        limit = least([share, host.height])
-        many = rounded_up(greatest([over(bar.height, limit), over(reach(bar), width)]))
-        flat = flattened(bar, many)
+    ordered = [bar for bar in bars if not is_thin(bar, width)] + widest_first(thin)
+    for k, bar in enumerate(ordered):
+        many = rows_in_pile(bar, fresh, len(bars) - k, width)
+        if many is None:
+            fresh.append(of_width(bar, width))
+            continue
+        host, flat = fresh.pop(tallest(fresh)), flattened(bar, many)
         if less(flat.height, host.height):
             host, remaining = parted_level(host, flat.height)
             fresh.append(remaining)
         done.append(of_width(held(host, [flat]), width))
     return fresh + done
+
+
+def rows_in_pile(bar, pile, many_bars, width):
+    """Into how many equally high parts a bar is cut for a rectangle of a pile to hold it; None if it is not to be.
+
+    Each one of so many bars is to find as much of the pile.
+    """
+    if not pile or not is_thin(bar, width):
+        return None
+    share = over(total([rectangle.height for rectangle in pile]), (many_bars, 1))
+    limit = least([share, pile[tallest(pile)].height])
+    many = rounded_up(greatest([over(bar.height, limit), over(reach(bar), width)]))
+    return many if many < rows_for(bar, width) else None
+
+
+def widest_first(bars):
+    lows = ranks([bar.low for bar in bars])
+    return [bars[k] for _, k in sorted([(-low, k) for k, low in enumerate(lows)])]
 
 
 def tallest(pile):
@@ -129,9 +143,9 @@ def cuts_to(bar, width):
     """About how many cuts bring a bar to a width."""
     if is_thin(bar, width):
         return 2 * THIN + rounded_up(over(reach(bar), width))
-    many = rounded_up(over(width, bar.low))
-    lean = rounded_up(over(reach(bar), times(bar.low, (many * many, 1))))
-    return many + lean + rounded_up(over(bar.low, width))
+    rows = rows_for(bar, width)
+    low = times(bar.low, (rows, 1))
+    return rows + rounded_up(over(reach(bar), times(low, (rows, 1)))) + rounded_up(over(low, width))
 
 
 def effort(first, second):

@@ -4,7 +4,7 @@ A wedge is a trapezoid whose lower edge is a point; one whose upper edge is a po
 a turn, so as a wedge, too. A bar is a trapezoid whose left and right edges have the same slope.
 """
 
-from cutandlaid.numbers import ascending, less, over, size_of
+from cutandlaid.numbers import ascending, less, size_of
 from cutandlaid.trapezoids import NOUGHT, joined, parted, parted_level, turned_half, within
 
 
@@ -119,16 +119,6 @@ class Pairing:
                 break
         self.left[which].append(wedge)
 
-    def open_pairs(self):
-        """Take the bars out of all pairs that are left over when these get half as high."""
-        closed = self.pairs
-        self.pairs = []
-        for pair in closed:
-            halves = [lowered(wedge, over(wedge.height, (2, 1))) for wedge in pair]
-            for k in range(2):
-                self.pairs.append((halves[0][k], halves[1][k]))
-                self.bars[k].append(halves[k][2])
-
 
 def likest(first, second):
     """The places of a wedge of one list and one of another one that can be paired with the fewest cuts."""
@@ -144,3 +134,8 @@ def likest(first, second):
 def bars_of_both(pairs):
     """The bars that wedges make with those that are turned by half a turn, from pairs of such."""
     return [joined([wedge, turned_half(other)]) for wedge, other in pairs]
+
+
+def turned_back(items):
+    """Trapezoids after half a turn, each of them."""
+    return [turned_half(item) for item in items]
