@@ -5,19 +5,19 @@ from cutandlaid.bars import leaned
 from cutandlaid.figures import figure_area
 from cutandlaid.numbers import less, over, times
 from cutandlaid.papers import inverse
-from cutandlaid.piles import MANY, bars_paper, effort, is_too_narrow, of_width
+from cutandlaid.piles import MANY, bars_paper, effort, is_too_narrow, of_width, paper_of_pairs
 from cutandlaid.points import point_of
 from cutandlaid.polygons import polygon_of
 from cutandlaid.slabs import slabs
 from cutandlaid.sums import edge_sums
-from cutandlaid.trapezoids import (NOUGHT, ORIGIN, joined, paper_between, parted, parted_level, rectangle_of,
-                                   trapezoid_of, turned_half, within)
+from cutandlaid.trapezoids import (NOUGHT, ORIGIN, joined, parted, parted_level, rectangle_of, trapezoid_of,
+                                   turned_half, within)
 from cutandlaid.wedgepairs import paired_wedges
 
 
 def turn_over(a, b, c, d):
     """A right paper for "free" from the rectangle of the lengths a and b to the one of c and d."""
-    return inverse(of_width(rectangle_of(a, b), c).layers)
+    return inverse(of_width(rectangle_of(a, b), c, NOUGHT).layers)
 
 
 def fill(l, r, h):
@@ -84,6 +84,4 @@ def free_paper(first, second):
         all_pairs, all_bars = paired_wedges(trapezoids_of(first), trapezoids_of(second), True)
         if is_too_narrow(bars, all_bars):
             paper, pairs, bars = [], all_pairs, all_bars
-    for item, other in pairs:
-        paper.extend(paper_between(item.layers, other.layers))
-    return paper + bars_paper(bars[0], bars[1])
+    return paper + paper_of_pairs(pairs) + bars_paper(bars[0], bars[1])

@@ -1,8 +1,8 @@
-"""Piles of rectangles of one width, into which bars are made, so that they can be compared."""
+"""Piles of bars of one width and one slope, into which other bars are made, so that they can be compared."""
 
 from math import isqrt
 
-from cutandlaid.bars import held, leaned, rounded_down, rounded_up
+from cutandlaid.bars import by_slope, held, leaned, rounded_down, rounded_up
 from cutandlaid.numbers import greatest, least, less, minus, over, plus, ranks, size_of, times, total
 from cutandlaid.points import point_of
 from cutandlaid.trapezoids import (NOUGHT, Trapezoid, cut_layers, joined, paper_between, parted, parted_level,
@@ -40,46 +40,48 @@ def heaped(bar, many):
     return Trapezoid(bar.left, bar.left, step, times((many, 1), bar.height), layers)
 
 
-def narrowed(rectangle, width):
-    """The rectangle of a width, of which the given one is at most double, of three parts of the given one.
+def narrowed(bar, width):
+    """The bar of a width, of which the given one is at most double, of three parts of the given one.
 
     The part above the line from the upper left corner of the new one to the lower right corner of the
     given one slides along this line, and what is then still too far to the right comes upon the rest.
     """
-    if rectangle.low == width:
-        return rectangle
-    height = over(times(rectangle.low, rectangle.height), width)
-    below, above = cut_layers(rectangle.layers, point_of(rectangle.low, NOUGHT), point_of(NOUGHT, height))
-    inside, outside = cut_layers(below, point_of(width, NOUGHT), point_of(width, (1, 1)))
-    layers = (inside + slid(above, minus(width, rectangle.low), minus(height, rectangle.height))
-              + slid(outside, minus(NOUGHT, width), rectangle.height))
-    return Trapezoid(NOUGHT, NOUGHT, width, height, layers)
+    if bar.low == width:
+        return bar
+    slope = bar.left
+    height = over(times(bar.low, bar.height), width)
+    below, above = cut_layers(bar.layers, point_of(bar.low, NOUGHT), point_of(times(slope, height), height))
+    inside, outside = cut_layers(below, point_of(width, NOUGHT), point_of(plus(width, slope), (1, 1)))
+    up = minus(height, bar.height)
+    layers = (inside + slid(above, plus(minus(width, bar.low), times(slope, up)), up)
+              + slid(outside, minus(times(slope, bar.height), width), bar.height))
+    return Trapezoid(slope, slope, width, height, layers)
 
 
-def of_width(bar, width):
-    """The rectangle of a width that is made of a bar."""
-    rectangle = leaned(flattened(bar, rows_for(bar, width)), NOUGHT)
-    return narrowed(heaped(rectangle, rounded_down(over(rectangle.low, width))), width)
+def of_width(bar, width, slope):
+    """The bar of a width and a slope that is made of a bar."""
+    wide = leaned(flattened(bar, rows_for(bar, width, slope)), slope)
+    return narrowed(heaped(wide, rounded_down(over(wide.low, width))), width)
 
 
-def rows_for(bar, width):
-    """Into how many equally high parts a bar is cut that these make a wide one that leans little."""
-    return max(1, rounded_up(over(width, bar.low)), isqrt(rounded_down(over(reach(bar), bar.low))))
+def rows_for(bar, width, slope):
+    """Into how many equally high parts a bar is cut that these make a wide one that is leaned but little."""
+    return max(1, rounded_up(over(width, bar.low)), isqrt(rounded_down(over(reach(bar, slope), bar.low))))
 
 
-def reach(bar):
-    """How far the upper edge of a bar lies aside of the lower one."""
-    return times(size_of(bar.left), bar.height)
+def reach(bar, slope):
+    """How far the upper edge of a bar lies aside of where it is with another slope."""
+    return times(size_of(minus(bar.left, slope)), bar.height)
 
 
 def is_thin(bar, width):
     return less(times((THIN, 1), bar.low), width)
 
 
-def pile_of(bars, width):
-    """Rectangles of a width that are made of bars.
+def pile_of(bars, width, slope):
+    """Bars of one width and one slope that are made of bars.
 
-    Where it takes many parts to make a rectangle of a thin bar, it is put into a part of another one.
+    Where it takes many parts to make such a bar of a thin one, it is put into a part of another one.
     """
     fresh, done = [], []
     thin = [bar for bar in bars if is_thin(bar, width)]
@@ -87,13 +89,13 @@ def pile_of(bars, width):
     for k, bar in enumerate(ordered):
         many = rows_in_pile(bar, fresh, len(bars) - k, width)
         if many is None:
-            fresh.append(of_width(bar, width))
+            fresh.append(of_width(bar, width, slope))
             continue
         host, flat = fresh.pop(tallest(fresh)), flattened(bar, many)
         if less(flat.height, host.height):
             host, remaining = parted_level(host, flat.height)
             fresh.append(remaining)
-        done.append(of_width(held(host, [flat]), width))
+        done.append(of_width(held(host, [flat]), width, slope))
     return fresh + done
 
 
@@ -104,10 +106,11 @@ def rows_in_pile(bar, pile, many_bars, width):
     """
     if not pile or not is_thin(bar, width):
         return None
-    share = over(total([rectangle.height for rectangle in pile]), (many_bars, 1))
+    share = over(total([host.height for host in pile]), (many_bars, 1))
     limit = least([share, pile[tallest(pile)].height])
-    many = rounded_up(greatest([over(bar.height, limit), over(reach(bar), width)]))
-    return many if many < rows_for(bar, width) else None
+    slope = pile[0].left
+    many = rounded_up(greatest([over(bar.height, limit), over(reach(bar, slope), width)]))
+    return many if many < rows_for(bar, width, slope) else None
 
 
 def widest_first(bars):
@@ -116,7 +119,7 @@ def widest_first(bars):
 
 
 def tallest(pile):
-    """The place of the first one of the rectangles with the greatest height."""
+    """The place of the first one of the bars with the greatest height."""
     best = 0
     for k in range(1, len(pile)):
         if less(pile[best].height, pile[k].height):
@@ -124,45 +127,64 @@ def tallest(pile):
     return best
 
 
-def best_width(bars):
-    """A width to which bars can be brought with few cuts."""
+def best_slope(bars):
+    """A slope to which bars need be leaned little: nought, if another one is not much better."""
+    ordered = by_slope(bars)
+    weights = [rough(bar.height) for bar in ordered]
+    # That one for which the bars that lean more are as high together as those that lean less.
+    place, sum_before = 0, weights[0]
+    while 2 * sum_before < sum(weights):
+        place += 1
+        sum_before += weights[place]
+    slope = ordered[place].left
+    leans = [sum([rough(reach(bar, other)) for bar in bars]) for other in (NOUGHT, slope)]
+    return slope if leans[0] > 4 * leans[1] else NOUGHT
+
+
+def best_width(bars, slope):
+    """A width to which bars can be brought with few cuts while they are leaned to a slope."""
     sizes = ranks([times(bar.low, bar.height) for bar in bars])
     ordered = sorted([(-size, k) for k, size in enumerate(sizes)])
     best, best_cuts = None, None
     for _, k in ordered[:ASKED]:
         bar = bars[k]
-        many = max(1, isqrt(rounded_down(over(reach(bar), bar.low))))
+        many = max(1, isqrt(rounded_down(over(reach(bar, slope), bar.low))))
         width = times(bar.low, (many, 1))
-        cuts = sum([cuts_to(other, width) for other in bars])
+        cuts = sum([cuts_to(other, width, slope) for other in bars])
         if best is None or cuts < best_cuts:
             best, best_cuts = width, cuts
     return best
 
 
-def cuts_to(bar, width):
-    """About how many cuts bring a bar to a width."""
+def cuts_to(bar, width, slope):
+    """About how many cuts bring a bar to a width and a slope."""
     if is_thin(bar, width):
-        return 2 * THIN + rounded_up(over(reach(bar), width))
-    rows = rows_for(bar, width)
+        return 2 * THIN + rounded_up(over(reach(bar, slope), width))
+    rows = rows_for(bar, width, slope)
     low = times(bar.low, (rows, 1))
-    return rows + rounded_up(over(reach(bar), times(low, (rows, 1)))) + rounded_up(over(low, width))
+    return rows + rounded_up(over(reach(bar, slope), times(low, (rows, 1)))) + rounded_up(over(low, width))
 
 
 def effort(first, second):
     """About how many pieces a paper from bars to other bars gets, beyond those for each bar."""
     if not first:
         return 0
-    width = best_width(first + second)
-    lengths = [sum([length_of_cuts(bar, width) for bar in bars]) for bars in (first, second)]
+    slope = best_slope(first + second)
+    width = best_width(first + second, slope)
+    lengths = [sum([length_of_cuts(bar, width, slope) for bar in bars]) for bars in (first, second)]
     size = sum([rough(times(bar.low, bar.height)) for bar in first])
     # Cuts of the one kind that lie everywhere in all directions cross those of the other kind so often.
     return lengths[0] * lengths[1] // (size * ROUGH + 1)
 
 
-def length_of_cuts(bar, width):
-    """About how long all edges are together of the pieces of a bar that is brought to a width, roughly."""
-    columns = plus((1, 1), plus(over(bar.low, width), over(reach(bar), greatest([bar.low, width]))))
-    sides = times(columns, plus(bar.height, reach(bar)))
+def length_of_cuts(bar, width, slope):
+    """About how long all edges are together of the pieces of a bar that is brought to a width, roughly.
+
+    What has the slope to which all are leaned counts as if it were upright.
+    """
+    aside = reach(bar, slope)
+    columns = plus((1, 1), plus(over(bar.low, width), over(aside, greatest([bar.low, width]))))
+    sides = times(columns, plus(bar.height, aside))
     return rough(plus(sides, plus(bar.low, times((3, 1), width))))
 
 
@@ -177,9 +199,15 @@ def bars_paper(first, second):
     if is_too_narrow((here, there), (first, second)):
         here, there, pairs = first, second, []
     if here:
-        width = best_width(here + there)
-        here, there, more = without_alike(pile_of(here, width), pile_of(there, width))
-        pairs = pairs + more + [(heap_of(here), heap_of(there))]
+        slope = best_slope(here + there)
+        width = best_width(here + there, slope)
+        here, there, more = without_alike(pile_of(here, width, slope), pile_of(there, width, slope))
+        return paper_of_pairs(pairs + more) + paper_between(heap_of(here), heap_of(there))
+    return paper_of_pairs(pairs)
+
+
+def paper_of_pairs(pairs):
+    """The paper between trapezoids that are alike, two by two."""
     return [pair for item, other in pairs for pair in paper_between(item.layers, other.layers)]
 
 
@@ -190,9 +218,9 @@ def is_too_narrow(some, all_bars):
 
 
 def heap_of(pile):
-    """The rectangle that rectangles of one width make upon one another."""
+    """The layers of the bar that bars of one width and one slope make upon one another."""
     layers, place = [], NOUGHT
-    for rectangle in pile:
-        layers.extend(slid(rectangle.layers, NOUGHT, place))
-        place = plus(place, rectangle.height)
-    return Trapezoid(NOUGHT, NOUGHT, NOUGHT, place, layers)
+    for bar in pile:
+        layers.extend(slid(bar.layers, times(bar.left, place), place))
+        place = plus(place, bar.height)
+    return layers

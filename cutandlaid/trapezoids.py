@@ -4,7 +4,7 @@ A trapezoid stands on the level line through (0, 0), its lower left corner there
 edge may be a point. It is put together of layers, each with the motion that leads it back to a figure.
 """
 
-from cutandlaid.clipping import cut, meet
+from cutandlaid.clipping import cut, meet, meets
 from cutandlaid.frames import near
 from cutandlaid.motions import STAY, follow, moved_polygon, undo
 from cutandlaid.numbers import greatest, least, less, minus, over, plus, times
@@ -12,6 +12,8 @@ from cutandlaid.points import difference, first_of, line_through, point_of, seco
 
 NOUGHT = (0, 1)
 ORIGIN = (0, 0, 1)
+# So many pairs of layers for each layer are many.
+CROWDED = 8
 
 
 class Trapezoid:
@@ -145,13 +147,17 @@ def within(low, number, high):
 
 def paper_between(first, second):
     """The paper that leads what layers are made of to what other layers in the same places are made of."""
+    neighbours = near([polygon for polygon, _ in first], [polygon for polygon, _ in second])
+    # Where narrow ones lie aslant, most of those that may meet do not, and to see that is quicker than to cut.
+    crowded = sum([len(others) for others in neighbours]) > CROWDED * (len(first) + len(second))
     paper = []
-    for k, others in enumerate(near([polygon for polygon, _ in first], [polygon for polygon, _ in second])):
+    for k, others in enumerate(neighbours):
         polygon, back = first[k]
         forth = undo(back)
         for j in others:
+            if crowded and not meets(polygon, second[j][0]):
+                continue
             common = meet(polygon, second[j][0])
             if common is not None:
                 paper.append((moved_polygon(back, common), follow(forth, second[j][1])))
     return paper
-

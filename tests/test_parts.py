@@ -185,19 +185,21 @@ class Bars(PartsCase):
         for width in (Fraction(3, 2), 2, Fraction(29, 10), 3):
             self.judge([narrowed(rectangle_of((3, 1), (4, 1)), num(width))], [rect(0, 0, 3, 4)])
         for width in (Fraction(1, 7), 1, 3, 10, 31):
-            rectangle = of_width(bar, num(width))
-            self.assertEqual(rectangle.shape()[:3], ((0, 1), (0, 1), num(width)))
-            self.judge([rectangle], origin)
+            for slope in ((0, 1), (2, 3), (-5, 2)):
+                other = of_width(bar, num(width), slope)
+                self.assertEqual(other.shape()[:3], (slope, slope, num(width)))
+                self.judge([other], origin)
 
     def test_piles(self):
         rows = [(0, 4, 5), (1, 3, 2), (HALF, Fraction(1, 50), 9), (-3, Fraction(1, 90), 7), (2, Fraction(1, 70), 3)]
         bars = [trapezoid(slope, slope, low, height, 100 * k) for k, (slope, low, height) in enumerate(rows)]
         origin = [carried_polygon(bar.layers[0][1], bar.layers[0][0]) for bar in bars]
         for some in (slice(0, 5), slice(2, 5), slice(3, 4)):
-            width = best_width(bars[some])
-            pile = pile_of(bars[some], width)
-            self.assertTrue(all(rectangle.shape()[:3] == ((0, 1), (0, 1), width) for rectangle in pile))
-            self.judge(pile, origin[some])
+            for slope in ((0, 1), (-7, 3)):
+                width = best_width(bars[some], slope)
+                pile = pile_of(bars[some], width, slope)
+                self.assertTrue(all(bar.shape()[:3] == (slope, slope, width) for bar in pile))
+                self.judge(pile, origin[some])
         wide = area_of(origin) / 3
         other = [trapezoid(0, 0, wide, 3, 0, 50)]
         paper = bars_paper(bars, other)
