@@ -25,7 +25,12 @@ def decide(first, second, group):
 
 def equal_groups(first, second):
     """The groups by which two figures are equal, in their order."""
-    return [group for group in GROUPS if find_witness(first, second, group) is None]
+    equal = []
+    for group in GROUPS:
+        # What is equal by a group is equal by each one in which this one lies.
+        if any([lies_in(other, group) for other in equal]) or find_witness(first, second, group) is None:
+            equal.append(group)
+    return equal
 
 
 def least_groups(first, second):

@@ -1,5 +1,6 @@
 """Differences of two figures: what shows that they are not equal by a group, as witnesses."""
 
+from cutandlaid.assembling import matched_whole
 from cutandlaid.errors import OnEdge
 from cutandlaid.figures import figure_area
 from cutandlaid.gridpapers import fold_difference, folded_apart
@@ -36,7 +37,9 @@ def unlike_direction(first, second):
 
 def unlike_height(first, second):
     """A height, no corner's, at which the crossings or the widths of two figures are different, or None."""
-    here, there = level_sums(first), level_sums(second)
+    # Polygons that are equal as a whole add the same to both sums.
+    _, first_rest, second_rest = matched_whole(first, second, "level")
+    here, there = level_sums(first_rest), level_sums(second_rest)
     if here == there:
         return None
     limits = ascending([height for strip in here + there for height in strip[:2]])
