@@ -1,6 +1,7 @@
 """Bars: trapezoids whose left and right edges have the same slope, and how they are made into other bars."""
 
-from cutandlaid.numbers import greatest, least, less, minus, over, plus, ranks, size_of, times, total
+from cutandlaid.numbers import (greatest, least, less, minus, over, place_of_greatest, plus, ranks, size_of, times,
+                                total)
 from cutandlaid.points import point_of
 from cutandlaid.trapezoids import NOUGHT, Trapezoid, cut_layers, joined, parted, slid
 
@@ -65,15 +66,6 @@ def by_slope(bars):
     return [bars[k] for _, k in sorted([(place, k) for k, place in enumerate(places)])]
 
 
-def widest(bars):
-    """The place of the first one of the bars with the longest lower edge."""
-    best = 0
-    for k in range(1, len(bars)):
-        if less(bars[best].low, bars[k].low):
-            best = k
-    return best
-
-
 def leaning_cuts(bar, slope):
     """About how many cuts it takes to lean a bar."""
     return rounded_up(over(times(size_of(minus(bar.left, slope)), bar.height), bar.low))
@@ -90,7 +82,7 @@ def joined_alike(bars):
 def gathered(bars, slope, patience):
     """One bar with a slope that is made of bars of one height; None if it takes more cuts than patience allows."""
     rows = joined_alike(bars)
-    host = rows.pop(widest(rows))
+    host = rows.pop(place_of_greatest([bar.low for bar in rows]))
     if can_hold(host, rows):
         cuts = len(rows)
     else:

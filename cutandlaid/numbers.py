@@ -75,10 +75,15 @@ def least(numbers):
 
 def greatest(numbers):
     """The greatest one of a list of numbers that is not empty."""
-    best = numbers[0]
-    for a in numbers:
-        if less(best, a):
-            best = a
+    return numbers[place_of_greatest(numbers)]
+
+
+def place_of_greatest(numbers):
+    """The place of the first one of the greatest numbers in a list that is not empty."""
+    best = 0
+    for k in range(1, len(numbers)):
+        if less(numbers[best], numbers[k]):
+            best = k
     return best
 
 

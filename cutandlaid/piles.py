@@ -3,7 +3,8 @@
 from math import isqrt
 
 from cutandlaid.bars import by_slope, held, leaned, rounded_down, rounded_up
-from cutandlaid.numbers import greatest, least, less, minus, over, plus, ranks, size_of, times, total
+from cutandlaid.numbers import (greatest, least, less, minus, over, place_of_greatest, plus, ranks, size_of, times,
+                                total)
 from cutandlaid.points import point_of
 from cutandlaid.trapezoids import (NOUGHT, Trapezoid, cut_layers, joined, paper_between, parted, parted_level,
                                    slid, without_alike)
@@ -120,11 +121,7 @@ def widest_first(bars):
 
 def tallest(pile):
     """The place of the first one of the bars with the greatest height."""
-    best = 0
-    for k in range(1, len(pile)):
-        if less(pile[best].height, pile[k].height):
-            best = k
-    return best
+    return place_of_greatest([bar.height for bar in pile])
 
 
 def best_slope(bars):
